@@ -1,0 +1,1 @@
+"""Restballots: seats while ballots are still uncounted."""

@@ -1,0 +1,93 @@
+"""Some of the rules of the language of the package, as far as a short test can tell them."""
+
+import ast
+import builtins
+import pathlib
+import re
+import unittest
+
+import restballots
+
+FOLDER = pathlib.Path(restballots.__file__).parent
+TEXTS = [path.read_text(encoding="utf-8") for path in sorted(FOLDER.glob("**/*.py"))]
+TREES = [ast.parse(text) for text in TEXTS]
+LIBRARY = {"heapq", "math", "itertools", "collections"}
+DECORATORS = {"property", "classmethod", "staticmethod"}
+BARRED = set(
+    "typing typing_extensions enum Enum IntEnum StrEnum Flag IntFlag Generic Protocol ABC ABCMeta namedtuple NamedTuple TypedDict "
+    "abstractmethod register mro elements open input law version_info with_traceback add_note eval exec float chr".split()
+)
+NOT_ALLOWED = (ast.Global, ast.Div, ast.AsyncFunctionDef, ast.Await, ast.Import)
+
+
+def bound_names(tree):
+    for node in ast.walk(tree):
+        if isinstance(node, ast.Name) and isinstance(node.ctx, ast.Store):
+            yield node.id
+        elif isinstance(node, ast.arg):
+            yield node.arg
+        elif isinstance(node, ast.ExceptHandler) and node.name:
+            yield node.name
+
+
+class LanguageTest(unittest.TestCase):
+    def test_folder(self):
+        self.assertTrue((FOLDER / "__init__.py").is_file())
+        self.assertFalse((FOLDER / "tests").exists())
+        for path in FOLDER.rglob("*"):
+            if "__pycache__" not in path.parts and path.is_file():
+                self.assertRegex(path.name, r"^[a-z_][a-z0-9_]*\.py$")
+
+    def test_size(self):
+        for text, tree in zip(TEXTS, TREES):
+            self.assertLessEqual(len(text.split("\n")), 399)
+            self.assertLessEqual(max(len(row) for row in text.split("\n")), 120)
+            for node in ast.walk(tree):
+                if isinstance(node, ast.FunctionDef):
+                    self.assertLessEqual(node.end_lineno - node.lineno + 1, 40)
+
+    def test_characters(self):
+        for text, tree in zip(TEXTS, TREES):
+            self.assertRegex(text, r"^[ -~\n]*$")
+            for node in ast.walk(tree):
+                if isinstance(node, ast.Constant) and isinstance(node.value, str):
+                    self.assertNotIn("%", node.value)
+                self.assertFalse(isinstance(node, ast.Constant) and isinstance(node.value, (float, complex)))
+
+    def test_statements_and_names(self):
+        for text, tree in zip(TEXTS, TREES):
+            for node in ast.walk(tree):
+                self.assertNotIsInstance(node, NOT_ALLOWED)
+                if isinstance(node, ast.Name):
+                    self.assertNotIn(node.id, BARRED)
+                if isinstance(node, ast.Attribute):
+                    self.assertNotIn(node.attr, BARRED)
+                if isinstance(node, (ast.FunctionDef, ast.ClassDef)):
+                    told = [decorator.id for decorator in node.decorator_list if isinstance(decorator, ast.Name)]
+                    self.assertLessEqual(set(told), DECORATORS)
+            self.assertEqual([name for name in bound_names(tree) if hasattr(builtins, name)], [])
+            self.assertIsNone(re.search("_wall|_WallAttr", text))
+
+    def test_imports(self):
+        for tree in TREES:
+            for node in ast.walk(tree):
+                if isinstance(node, ast.ImportFrom):
+                    self.assertEqual(node.level, 0)
+                    self.assertTrue(node.module in LIBRARY or node.module.startswith("restballots."), node.module)
+                    self.assertEqual([name.name for name in node.names if name.asname or name.name == "*"], [])
+                    if node.module.startswith("restballots."):
+                        defined = (FOLDER / (node.module.split(".")[1] + ".py")).read_text(encoding="utf-8")
+                        for name in node.names:
+                            self.assertRegex(defined, rf"(?m)^(def |class )?{name.name}\b")
+
+    def test_module_level(self):
+        allowed = (ast.Expr, ast.ImportFrom, ast.FunctionDef, ast.ClassDef, ast.Assign)
+        for tree in TREES:
+            for node in tree.body:
+                self.assertIsInstance(node, allowed)
+                if isinstance(node, ast.Expr):
+                    self.assertIsInstance(node.value, ast.Constant)
+
+
+if __name__ == "__main__":
+    unittest.main()
