@@ -63,9 +63,27 @@ def is_pile(value, names):
     return is_tuple_of(value, 2) and is_between(value[0], 0, MOST_COUNT) and is_group(value[1], names)
 
 
+def is_row(value, many):
+    """Whether the value is a tuple of so many integers from 0 on."""
+    return is_tuple_of(value, many) and all([is_integer(item) and item >= 0 for item in value])
+
+
 def is_outcome(value, pile):
     """Whether the value is ballots that can come out of this pile."""
     size, names = pile
-    if not is_tuple_of(value, len(names)):
+    return is_row(value, len(names)) and sum(value) <= size
+
+
+def is_table(value, many, seats):
+    """Whether the value is a table of so many seats for so many parties."""
+    return is_row(value, many) and sum(value) == seats
+
+
+def is_bloc(value, names):
+    """Whether the value is an ascending tuple of one or more of these names."""
+    if not isinstance(value, tuple) or len(value) == 0:
         return False
-    return all([is_integer(item) and item >= 0 for item in value]) and sum(value) <= size
+    # Only strings are compared: a foreign object could call itself equal to a name.
+    if not all([isinstance(item, str) and item in names for item in value]):
+        return False
+    return all([low < high for low, high in zip(value, value[1:])])

@@ -2,7 +2,12 @@
 
 import unittest
 
+from restballots.blocs import is_sure, margin, mattering, may_have, seat_range, seatless
 from restballots.nights import Night
+from restballots.possible import ballots_for, barring, is_possible, possible
+from restballots.prices import distance, least_price, needs
+from restballots.results import is_result, prices, results
+from tests.samples import sample
 
 
 class NightsTest(unittest.TestCase):
@@ -15,6 +20,48 @@ class NightsTest(unittest.TestCase):
         self.assertEqual(
             repr([night.counted(0, (4, 16)).parties, night.changed(("size", 0, 5)).piles, night.tables()[:2]]),
             "[(('red', 50), ('blue', 34), ('gold', 34)), ((5, ('blue', 'gold')),), ((0, 0, 3), (0, 1, 2))]",
+        )
+
+
+class QuestionsTest(unittest.TestCase):
+    def test_results(self):
+        night = sample()
+        self.assertEqual(
+            repr([results(night), prices(night, (2, 1, 0)), is_result(night, (1, 1, 1)), prices(night, (1, 1, 1))]),
+            "[((2, 1, 0),), ((18, 1), (25, 1)), False, None]",
+        )
+        self.assertEqual(repr(results(Night((1, 3), (("a", 30), ("b", 10)), ()))), "((1, 1), (2, 0))")
+
+    def test_prices(self):
+        night = sample()
+        self.assertEqual(
+            repr([least_price(night, (1, 1, 1)), needs(night, (1, 1, 1)), distance(night, (1, 1, 1)), needs(night, (2, 0, 1)),
+                  distance(night, (2, 1, 0))]),
+            "[(25, 1), (50, 30, 25), 7, (60, 30, 30), 0]",
+        )
+
+    def test_possible(self):
+        night = sample()
+        self.assertEqual(
+            repr([possible(night), is_possible(night, (2, 0, 1)), len(barring(night, (2, 0, 1))), barring(night, (1, 1, 1))]),
+            "[((1, 1, 1), (1, 2, 0), (2, 1, 0)), False, 2, None]",
+        )
+        self.assertEqual(
+            repr([ballots_for(night, (1, 2, 0)), ballots_for(night, (2, 0, 1))]),
+            "[(((20, 0),), (25, 1)), None]",
+        )
+
+    def test_blocs(self):
+        night = sample()
+        self.assertEqual(
+            repr([seat_range(night, ("red",)), seat_range(night, ("blue", "gold")), is_sure(night, ("red",), 1),
+                  may_have(night, ("gold",), 2)]),
+            "[(1, 2), (1, 2), True, False]",
+        )
+        self.assertEqual(
+            repr([margin(night, ("blue",), 2), margin(night, ("gold",), 1), margin(night, ("red",), 2), mattering(night, ("red",)),
+                  seatless(night)]),
+            "[20, 7, 0, (0,), ()]",
         )
 
 

@@ -88,6 +88,34 @@ class LanguageTest(unittest.TestCase):
                 if isinstance(node, ast.Expr):
                     self.assertIsInstance(node.value, ast.Constant)
 
+    def test_calls(self):
+        for tree in TREES:
+            for node in ast.walk(tree):
+                if isinstance(node, ast.GeneratorExp):
+                    self.fail(ast.unparse(node))
+                if isinstance(node, ast.Call) and isinstance(node.func, ast.Attribute):
+                    self.assertNotIn(node.func.attr, ("sort", "format"))
+                if isinstance(node, ast.Compare):
+                    for kind, right in zip(node.ops, node.comparators):
+                        if isinstance(kind, (ast.Is, ast.IsNot)):
+                            self.assertIn(ast.unparse(right), ("None", "True", "False"))
+
+    def test_each_needs_only_those_ahead(self):
+        order = ["limits", "errors", "nights", "results", "prices", "possible", "blocs", "rules", "mends", "live", "shelves",
+                 "checker", "certificates", "console"]
+        needed = {}
+        for path, tree in zip(sorted(FOLDER.glob("**/*.py")), TREES):
+            modules = [node.module for node in ast.walk(tree) if isinstance(node, ast.ImportFrom)]
+            needed[path.stem] = {module.split(".")[1] for module in modules if module.startswith("restballots.")}
+
+        def behind(name, way):
+            self.assertNotIn(name, way)
+            return {name}.union(*[behind(other, way + [name]) for other in needed[name]])
+
+        for name in needed:
+            later = order[order.index(name) + 1:] if name in order else []
+            self.assertEqual(behind(name, []) & set(later), set())
+
 
 if __name__ == "__main__":
     unittest.main()
