@@ -1,21 +1,28 @@
 """Blocs: how many seats parties have together in possible tables, and what it takes to bring them to more."""
 
 from restballots.arguments import check_bloc, check_night, check_seats
-from restballots.possible import possible
-from restballots.prices import distance
+from restballots.parts import with_item
+from restballots.possible import possible, possible_with
+from restballots.pricing import counts_of, least_lacks
 
 
-def seats_in(night, bloc, table):
-    """How many seats the bloc has in the table."""
-    return sum([own for name, own in zip(night.names, table) if name in bloc])
+def seats_in(night, bloc, tables):
+    """How many seats the bloc has in each of the tables."""
+    places = [index for index, name in enumerate(night.names) if name in bloc]
+    return [sum([table[place] for place in places]) for table in tables]
+
+
+def range_in(night, bloc, tables):
+    """The fewest and the most seats that the bloc has in these tables."""
+    held = seats_in(night, bloc, tables)
+    return min(held), max(held)
 
 
 def seat_range(night, bloc):
     """The fewest and the most seats that the bloc has in possible tables."""
     check_night(night)
     check_bloc(night, bloc)
-    held = [seats_in(night, bloc, table) for table in possible(night)]
-    return min(held), max(held)
+    return range_in(night, bloc, possible(night))
 
 
 def is_sure(night, bloc, seats):
@@ -23,7 +30,7 @@ def is_sure(night, bloc, seats):
     check_night(night)
     check_bloc(night, bloc)
     check_seats(night, seats)
-    return seat_range(night, bloc)[0] >= seats
+    return range_in(night, bloc, possible(night))[0] >= seats
 
 
 def may_have(night, bloc, seats):
@@ -31,7 +38,7 @@ def may_have(night, bloc, seats):
     check_night(night)
     check_bloc(night, bloc)
     check_seats(night, seats)
-    return seat_range(night, bloc)[1] >= seats
+    return range_in(night, bloc, possible(night))[1] >= seats
 
 
 def margin(night, bloc, seats):
@@ -39,14 +46,21 @@ def margin(night, bloc, seats):
     check_night(night)
     check_bloc(night, bloc)
     check_seats(night, seats)
-    return min([distance(night, table) for table in night.tables() if seats_in(night, bloc, table) >= seats])
+    tables = night.tables()
+    enough = [table for table, held in zip(tables, seats_in(night, bloc, tables)) if held >= seats]
+    return min([sum(lacks) for lacks in least_lacks(night.divisors, counts_of(night.parties), enough)])
+
+
+def range_without(night, bloc, index):
+    """The range that the bloc has if the SIZE of the pile with this index is 0."""
+    piles = with_item(night.piles, index, (0, night.piles[index][1]))
+    return range_in(night, bloc, possible_with(night, piles))
 
 
 def mattering(night, bloc):
     """The indexes of the piles without which the bloc has another range, ascending."""
     usual = seat_range(night, bloc)
-    lighter = [night.changed(("size", index, 0)) for index in range(len(night.piles))]
-    return tuple([index for index, other in enumerate(lighter) if seat_range(other, bloc) != usual])
+    return tuple([index for index in range(len(night.piles)) if range_without(night, bloc, index) != usual])
 
 
 def seatless(night):

@@ -29,9 +29,26 @@ def group_rooms(names, piles):
     return [sum([size for size, own in rows if own & group]) for group in range(1 << len(names))]
 
 
-def is_enough(lacks, rooms):
+def tight_rooms(rooms):
+    """Pairs of a group and the room for it, the group of all parties last.
+
+    These alone decide whether there is enough: a group is left out if there is no more room for it with a party more.
+    """
+    bits = [1 << index for index in range(len(rooms).bit_length() - 1)]
+    return [
+        (group, room)
+        for group, room in enumerate(rooms)
+        if all([group & bit or rooms[group | bit] > room for bit in bits])
+    ]
+
+
+def is_enough(lacks, tight):
     """Whether no group lacks more ballots than there is room for."""
-    return all([lack <= room for lack, room in zip(group_sums(lacks), rooms)])
+    together = sum(lacks)
+    if together == 0 or together > tight[-1][1]:
+        return together == 0
+    sums = group_sums(lacks)
+    return all([sums[group] <= room for group, room in tight])
 
 
 def short_group(lacks, rooms):

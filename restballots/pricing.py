@@ -1,9 +1,13 @@
 """What prices ask of a table: bounds, needs, and the steps to the least price.
 
-Divisors, counts and table are plain tuples here, the counts of any size.
+Divisors, counts and table are plain tuples here, the counts of any size. Each price that a step leads to is a number
+of ballots divided by a divisor. So it is an integer if it is multiplied by the scale, which all divisors divide; such
+an integer is called a level here.
 """
 
-from restballots.quotients import ZERO, fraction, is_below
+from math import lcm
+
+from restballots.quotients import ZERO, is_below
 
 
 def counts_of(parties):
@@ -29,60 +33,85 @@ def is_made_by(divisors, counts, table):
     return not is_below(greatest, least)
 
 
-def needs_at(divisors, counts, table, price):
-    """The needs of all parties at the price."""
-    top, bottom = price
-    found = []
-    for count, own in zip(counts, table):
-        # Seats are paid with whole ballots, so the need is rounded up.
-        paid = (top * divisors[own - 1] + bottom - 1) // bottom if own > 0 else 0
-        found.append(max(count, paid))
-    return tuple(found)
+def scale_of(divisors):
+    """The least integer that all divisors divide."""
+    scale = 1
+    for divisor in divisors:
+        scale = lcm(scale, divisor)
+    return scale
 
 
-def steps_at(divisors, counts, table, price):
-    """All steps at the price, each as a pair of the index of its party and the price that it leads to."""
+def claims_of(divisors, counts):
+    """For each party the levels of its claims to its first seat, its second one and so on."""
+    units = units_of(divisors)[:-1]
+    return [[count * unit for unit in units] for count in counts]
+
+
+def pays_of(divisors):
+    """For each number of seats from 0 on what they cost at the price 1."""
+    return (0,) + divisors
+
+
+def units_of(divisors):
+    """For each number of seats from 0 on the level of the claim of one ballot to one seat more, 0 with all seats."""
+    scale = scale_of(divisors)
+    return tuple([scale // divisor for divisor in divisors]) + (0,)
+
+
+def settled(pays, units, scale, numbers, level):
+    """The least level from this one on at which no party that has one of these numbers of seats has a step left.
+
+    This holds where the count of each such party has no step at this level.
+    """
+    reached = level
+    before = None
+    while before != reached:
+        before = reached
+        for own in numbers:
+            # Seats are paid with whole ballots, so the price is rounded up.
+            claim = -(-reached * pays[own] // scale) * units[own]
+            if claim > reached:
+                reached = claim
+    return reached
+
+
+def levels_and_lacks(divisors, counts, tables):
+    """For each of the tables its least level, and how many ballots each party lacks there for its need."""
+    scale = scale_of(divisors)
+    pays = pays_of(divisors)
+    units = units_of(divisors)
+    claims = [[count * unit for unit in units] for count in counts]
+    known = {}
     found = []
-    for index, need in enumerate(needs_at(divisors, counts, table, price)):
-        own = table[index]
-        if own < len(divisors) and is_below(price, (need, divisors[own])):
-            found.append((index, fraction(need, divisors[own])))
+    for table in tables:
+        begun = max([row[own] for row, own in zip(claims, table)])
+        numbers = tuple(sorted(set(table)))
+        # The least level goes by these two alone, and many tables have them in common.
+        key = (begun, numbers)
+        if key not in known:
+            level = settled(pays, units, scale, numbers, begun)
+            known[key] = (level, {own: -(-level * pays[own] // scale) for own in numbers})
+        level, paid = known[key]
+        lacks = [paid[own] - count if paid[own] > count else 0 for count, own in zip(counts, table)]
+        found.append((level, tuple(lacks)))
     return found
 
 
-def farthest(steps):
-    """The first one of these steps that leads to the greatest price."""
-    best = steps[0]
-    for step in steps:
-        if is_below(best[1], step[1]):
-            best = step
-    return best
+def least_lacks(divisors, counts, tables):
+    """For each of the tables how many ballots each party lacks for its need at the least price."""
+    return [lacks for _, lacks in levels_and_lacks(divisors, counts, tables)]
 
 
-def steps_to_least(divisors, counts, table):
-    """Steps from the price 0 to the least price of the table."""
-    made = []
-    price = ZERO
-    while found := steps_at(divisors, counts, table, price):
-        # The farthest step leaves the fewest ones to be made.
-        step = farthest(found)
-        made.append(step)
-        price = step[1]
-    return made
+def needs_at(divisors, counts, table, level):
+    """The needs of all parties at the level."""
+    scale = scale_of(divisors)
+    pays = pays_of(divisors)
+    return tuple([max(count, -(-level * pays[own] // scale)) for count, own in zip(counts, table)])
 
 
-def price_behind(steps):
-    """The price at which these steps end, which begin at 0."""
-    return steps[-1][1] if len(steps) > 0 else ZERO
-
-
-def lacks_at(divisors, counts, table, price):
-    """How many ballots each party lacks for its need at the price."""
-    needed = needs_at(divisors, counts, table, price)
-    return tuple([need - count for need, count in zip(needed, counts)])
-
-
-def least_lacks(divisors, counts, table):
-    """How many ballots each party lacks for its need at the least price of the table."""
-    price = price_behind(steps_to_least(divisors, counts, table))
-    return lacks_at(divisors, counts, table, price)
+def step_from(divisors, counts, table, level):
+    """The step at the level that leads highest: the index of its party, and the level behind it; None without any."""
+    units = units_of(divisors)
+    claims = [need * units[own] for need, own in zip(needs_at(divisors, counts, table, level), table)]
+    most = max(claims)
+    return (claims.index(most), most) if most > level else None

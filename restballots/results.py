@@ -1,8 +1,9 @@
 """Results: the tables that come out of the counts as they are."""
 
 from restballots.arguments import check_night, check_table
-from restballots.pricing import counts_of, is_made_by, price_bounds
+from restballots.pricing import claims_of, counts_of, is_made_by, price_bounds
 from restballots.quotients import fraction, is_below
+from restballots.seating import tables_made
 
 
 def is_result(night, table):
@@ -15,9 +16,7 @@ def is_result(night, table):
 def results(night):
     """All results of the counts as they are, ascending."""
     check_night(night)
-    divisors = night.divisors
-    counts = counts_of(night.parties)
-    return tuple([table for table in night.tables() if is_made_by(divisors, counts, table)])
+    return tables_made(claims_of(night.divisors, counts_of(night.parties)), night.seats)
 
 
 def prices(night, table):

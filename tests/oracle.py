@@ -120,6 +120,12 @@ def lack(night, table, price, group):
     return sum(need - count for name, need, count in needed if name in group)
 
 
+def is_within_rooms(night, table):
+    """Whether the table is possible by point 10, with the least price come to by steps made one by one."""
+    price = least_price(night, table, lambda found: max(found, key=lambda step: step[1]))
+    return all(lack(night, table, price, group) <= room(night, group) for group in groups(night.names))
+
+
 def groups(names):
     """All blocs of these parties."""
     return [tuple(sorted(group)) for many in range(1, len(names) + 1) for group in itertools.combinations(names, many)]
@@ -180,6 +186,32 @@ def some_tables(night, seed, many):
         for _ in range(night.seats):
             table[source.randrange(len(night))] += 1
         found.append(tuple(table))
+    return found
+
+
+def neighbours(tables):
+    """All tables that are one of these, or one of these with one seat moved, ascending."""
+    found = set(tables)
+    for table in tables:
+        for one, other in itertools.permutations(range(len(table)), 2):
+            if table[one] > 0:
+                moved = list(table)
+                moved[one] -= 1
+                moved[other] += 1
+                found.add(tuple(moved))
+    return sorted(found)
+
+
+def close_nights(seed, many):
+    """So many nights with divisors close together, most of them near 100, and counts and piles of a few ballots."""
+    source = random.Random(seed)
+    found = []
+    for _ in range(many):
+        seats = source.randint(2, 12)
+        first = source.choice([1, 50, 101 - seats, 101 - seats, 101 - seats])
+        row = tuple(range(first, first + seats))
+        most = source.choice([1, 3, 9, 40])
+        found.append(night_of(source, row, source.randint(2, 6), most, source.randint(0, 4), source.choice([0, 2, most, 5 * most])))
     return found
 
 

@@ -145,6 +145,39 @@ class PossibleTest(CloseTest):
             for table in oracle.some_tables(night, seed, 30) + list(found[:10]):
                 self.has_papers(night, table, table in found)
 
+    def agrees_on_rooms(self, night, seed):
+        """What is told possible is so by point 10, for tables on both sides of the border and any others."""
+        found = possible(night)
+        source = random.Random(seed)
+        near = oracle.neighbours(source.sample(found, min(len(found), 6)))
+        for table in source.sample(near, min(len(near), 25)) + oracle.some_tables(night, seed, 10):
+            can = oracle.is_within_rooms(night, table)
+            self.assertEqual([table in found, is_possible(night, table)], [can, can])
+            self.has_papers(night, table, can)
+
+    def test_divisors_close_together(self):
+        for seed, night in enumerate(oracle.close_nights(41, 25)):
+            self.agrees_on_rooms(night, seed)
+
+    def test_tables_near_the_possible_ones_of_great_nights(self):
+        for seed, night in enumerate(oracle.great_nights(42, 25)):
+            self.agrees_on_rooms(night, seed)
+
+    def test_all_tables_of_a_night_with_divisors_near_100(self):
+        parties = (("a", 1), ("b", 2), ("c", 1), ("d", 3), ("e", 1), ("f", 2))
+        night = Night(tuple(range(89, 101)), parties, ((5, ("a", "b")),))
+        found = possible(night)
+        self.assertEqual(found, tuple(table for table in night.tables() if is_possible(night, table)))
+        self.agrees_on_rooms(night, 43)
+        self.agrees_on_rooms(Night((96, 97, 98, 99, 100), parties, ((5, ("a", "b")), (90, ("c", "f")))), 44)
+
+    def test_all_ballots_of_small_nights_with_divisors_near_100(self):
+        source = random.Random(45)
+        for _ in range(30):
+            seats = source.randint(2, 5)
+            row = tuple(range(101 - seats, 101))
+            self.agrees(oracle.night_of(source, row, source.randint(2, 3), 3, source.randint(1, 3), 3))
+
     def test_the_greatest_nights(self):
         for seed, most_left in enumerate((10 ** 6, 10 ** 4, 3)):
             night = greatest_night(seed, most_left)

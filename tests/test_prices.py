@@ -50,6 +50,11 @@ class LeastPriceTest(CloseTest):
                 for table in night.tables():
                     self.agrees(night, table)
 
+    def test_divisors_close_together(self):
+        for seed, night in enumerate(oracle.close_nights(18, 30)):
+            for table in oracle.some_tables(night, seed, 3):
+                self.agrees(night, table, seed)
+
     def test_great_nights(self):
         for seed, night in enumerate(oracle.great_nights(13, 40)):
             for table in oracle.some_tables(night, seed, 10):

@@ -115,6 +115,26 @@ class ResultsTest(CloseTest):
             for table in oracle.some_tables(night, 4, 20):
                 self.agrees_on_prices(night, table)
 
+    def test_all_tables_of_great_nights_with_ties(self):
+        source = random.Random(6)
+        for row in (tuple(range(1, 13)), tuple(range(1, 24, 2)), (2, 4, 6, 8, 12, 24), tuple(range(89, 101))):
+            for most in (1, 2, 720):
+                for many in (4, 6):
+                    counts = [source.choice([0, most, most // 2, most // 3, 2 * most, 60, 60]) for _ in range(many)]
+                    night = night_with(row, counts)
+                    self.assertEqual(results(night), tuple(table for table in night.tables() if is_result(night, table)))
+
+    def test_ties_of_a_great_night(self):
+        night = night_with(tuple(range(1, 13)), (360, 240, 240, 60, 0, 720))
+        # Nine claims are above 120, and four are just 120 for the three seats that are left.
+        self.assertEqual(results(night), ((2, 2, 2, 0, 0, 6), (3, 1, 2, 0, 0, 6), (3, 2, 1, 0, 0, 6), (3, 2, 2, 0, 0, 5)))
+        self.assertEqual(results(night), tuple(table for table in night.tables() if is_result(night, table)))
+
+    def test_all_tables_where_all_counts_are_0(self):
+        for seats, many in ((12, 6), (12, 1), (1, 6), (5, 4)):
+            night = night_with(tuple(range(1, seats + 1)), (0,) * many)
+            self.assertEqual(results(night), night.tables())
+
     def test_the_greatest_night(self):
         counts = (10 ** 6, 999999, 500000, 333333, 1, 0)
         night = night_with(tuple(range(1, 13)), counts)
