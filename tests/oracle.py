@@ -140,6 +140,47 @@ def seat_range(night, bloc):
     return min(held), max(held)
 
 
+@functools.lru_cache(maxsize=None)
+def margin_by_text(text, bloc, seats):
+    night = Night.read(text)
+    found = [row for row in tables(night.seats, len(night)) if seats_in(night, bloc, row) >= seats]
+    pick = functools.partial(max, key=lambda step: step[1])
+    return min(lack(night, row, least_price(night, row, pick), night.names) for row in found)
+
+
+def holds(night, demand):
+    """Whether a demand on the night holds, by point 14."""
+    word, told, *rest = demand
+    if word == "can":
+        return told in possible(night)
+    if word == "sure":
+        return seat_range(night, told)[0] >= rest[0]
+    if word == "may":
+        return seat_range(night, told)[1] >= rest[0]
+    if word == "far":
+        return margin_by_text(str(night), told, rest[0]) >= rest[1]
+    return possible(night) == possible(Night.read(told))
+
+
+def other_night(source, night):
+    """A night with the same seats and names, and some of its numbers."""
+    row = source.choice([night.divisors, night.divisors, tuple(range(1, night.seats + 1)), tuple(range(101 - night.seats, 101))])
+    parties = tuple((name, source.choice([count, count, source.randint(0, 20)])) for name, count in night.parties)
+    return Night(row, parties, source.choice([night.piles, night.piles, night.piles[:1], ()]))
+
+
+def some_demand(source, night):
+    """Any demand on the night."""
+    word = source.choice(["can", "sure", "may", "far", "like"])
+    if word == "can":
+        return word, source.choice(night.tables())
+    if word == "like":
+        return word, str(other_night(source, night))
+    bloc = source.choice(groups(night.names))
+    seats = source.randint(0, night.seats)
+    return (word, bloc, seats, source.choice([0, 1, 2, 5, 20, 10 ** 7])) if word == "far" else (word, bloc, seats)
+
+
 def piles_for(source, names, many, most):
     piles = []
     for _ in range(many):

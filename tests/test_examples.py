@@ -3,11 +3,15 @@
 import unittest
 
 from restballots.blocs import is_sure, margin, mattering, may_have, seat_range, seatless
+from restballots.errors import InvalidPiles
+from restballots.live import Desk
+from restballots.mends import holds, mends
 from restballots.nights import Night
 from restballots.possible import ballots_for, barring, is_possible, possible
 from restballots.prices import distance, least_price, needs
 from restballots.results import is_result, prices, results
-from tests.samples import sample
+from restballots.rules import are_alike, favours, parting_counts, parting_pairs
+from tests.samples import CloseTest, sample
 
 
 class NightsTest(unittest.TestCase):
@@ -63,6 +67,41 @@ class QuestionsTest(unittest.TestCase):
                   seatless(night)]),
             "[20, 7, 0, (0,), ()]",
         )
+
+
+class RulesTest(unittest.TestCase):
+    def test_rules(self):
+        self.assertEqual(
+            repr([parting_pairs((1, 2, 3), (1, 3, 5), 2), parting_pairs((1, 2, 3), (1, 3, 5), 3), are_alike((1, 2, 3), (2, 4, 6), 4)]),
+            "[((1, 3),), ((1, 2), (1, 3)), True]",
+        )
+        self.assertEqual(
+            repr([favours((1, 3, 5), (1, 2, 3)), favours((1, 2, 3), (1, 3, 5)), parting_counts((1, 2), (3, 6), 2)]),
+            "[True, False, None]",
+        )
+
+
+class MendsTest(unittest.TestCase):
+    def test_mends(self):
+        night = sample()
+        self.assertEqual(
+            repr([holds(night, ("can", (1, 1, 1))), holds(night, ("sure", ("red",), 2)), holds(night, ("far", ("gold",), 1, 7)),
+                  holds(night, ("may", ("gold",), 2))]),
+            "[True, False, True, False]",
+        )
+        changes = (("size", 0, 6), ("count", 0, 76), ("size", 0, 7), ("divisor", 1, 3))
+        self.assertEqual(repr(mends(night, (("sure", ("red",), 2),), changes)), "((0,), (1,))")
+
+
+class LiveTest(CloseTest):
+    def test_live(self):
+        desk = Desk(sample())
+        desk.count(0, (4, 16))
+        self.assertEqual(
+            repr([len(desk), desk.still, desk.night.parties, possible(desk.night)]),
+            "[0, 1, (('red', 50), ('blue', 34), ('gold', 34)), ((1, 1, 1),)]",
+        )
+        self.raises_index(InvalidPiles, 0, desk.add, 3, ("red", "green"))
 
 
 if __name__ == "__main__":
