@@ -1,6 +1,6 @@
 """Certificates: claims for the checker, each in a pair with what shows that it is true."""
 
-from restballots.arguments import check_bloc, check_night, check_seats, check_table
+from restballots.arguments import check_bloc, check_night, check_seats
 from restballots.blocs import seat_range, seats_in
 from restballots.groups import group_rooms
 from restballots.possible import ballots_for, bar_of, barring

@@ -52,7 +52,7 @@ class Shelf:
     def names(self):
         """The names under which nights stand, ascending."""
         nights, _ = self.moment.held
-        return tuple(sorted(nights))
+        return tuple(sorted(list(nights)))
 
     @property
     def demands(self):
@@ -88,7 +88,7 @@ class Shelf:
             raise InvalidName(name)
         check_night(night)
         nights, demands = self.moment.held
-        later = {other: nights[other] for other in nights}
+        later = dict(nights)
         later[name] = night
         for index, demand in enumerate(demands):
             # The demands on other nights hold as they did.
@@ -103,7 +103,8 @@ class Shelf:
         for index, demand in enumerate(demands):
             if name in names_in(demand):
                 raise InUse(index)
-        later = {other: nights[other] for other in nights if other != name}
+        later = dict(nights)
+        del later[name]
         self.moment = Moment((later, demands), self.moment)
 
     def ask(self, demand):

@@ -29,6 +29,7 @@ def no_demands():
         ("alike", "here", "there"), ("count", 0, 5), ("near", (1, 1, 1), 3), ("barred", (1, 1, 1)), ("here", GOOD), ("never", RED, 1),
         ("sure", RED), ("may", RED), ("far", RED), ("far", RED, 1), ("sure", RED, 1, 0), ("may", RED, 1, 0), ("far", RED, 1, 0, 0),
         ("sure", 1, RED), ("far", RED, 1, None), ("like",), ("like", TEXT, TEXT), ("like", sample()), ("like", TEXT.encode()),
+        ("near", RED, 1, 1), ("Far", RED, 1, 1), ("", RED, 1, 1), (b"far", RED, 1, 1), ("can", RED, 1, 1), ("like", RED, 1, 1),
         ("like", (TEXT,)), ("like", RED, 1), ("can", RED, 1), ("sure", (1, 1, 1)),
     ]
     for word, *rest in (("sure",), ("may",), ("far", 0)):
@@ -38,6 +39,7 @@ def no_demands():
         found += [(word, RED, seats, *rest) for seats in [4, 13, 10 ** 39, "1", (1,), [1]] + odd_values()]
     found += [("far", RED, 1, many) for many in [10 ** 7 + 1, 10 ** 39, "1", (1,), [1]] + odd_values()]
     found += [("like", text) for text in OTHER_TEXTS + NO_TEXTS + odd_values()]
+    found += [(value, RED, 1, 1) for value in odd_values()]
     return found + [(value, RED, 1) for value in odd_values()] + [(value, (1, 1, 1)) for value in odd_values()]
 
 

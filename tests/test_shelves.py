@@ -55,12 +55,14 @@ def some_demands():
         ("Can", (1,)), ("like",), ("like", ""), ("like", TEXT + "\n"), ("like", TEXT, TEXT), ("like", sample()), ("like", (TEXT,)), ("near", (1,), 3),
         ("alike", "here", "there"), ("sure", RED), ("sure", RED, 13), ("sure", RED, -1), ("sure", RED, True), ("sure", RED, "1"), ("sure", RED, 1, 1),
         ("may", RED, 13), ("may", RED, None), ("may", RED), ("far", RED, 1), ("far", RED, 13, 1), ("far", RED, 1, -1), ("far", RED, 1, 10 ** 7 + 1),
-        ("far", RED, 1, True), ("far", RED, 1, None), ("far", RED, True, 1), ("far", RED, 1, 1, 1), ("never", RED, 1), ("count", 0, 5), ("here", ("can", (1,))),
+        ("far", RED, 1, True), ("far", RED, 1, None), ("far", RED, True, 1), ("far", RED, 1, 1, 1), ("never", RED, 1), ("count", 0, 5), ("near", RED, 1, 1),
+        ("Far", RED, 1, 1), ("", RED, 1, 1), (b"far", RED, 1, 1), ("can", RED, 1, 1), ("like", RED, 1, 1), ("here", ("can", (1,))),
     ]
     for bloc in [(), "red", ["red"], ("red", "blue"), ("red", "red"), ("Red",), ("a" * 9,), ("a", "b", "c", "d", "e", "f", "g"), (1,), None, ("a", None),
-                 ("a", "b", "c", "d", "e", "f", "f")] + odd_values():
+                 ("a", "b", "c", "d", "e", "f", "f"), ("Red", "blue"), ("", "a"), ("a", "a b"), ("a", "bbbbbbbbb"), ("0", "a"), ("a", "z_"),
+                 ("a", b"b"), (1, "a"), ("a", 1)] + odd_values():
         found += [("sure", bloc, 1), ("may", bloc, 1), ("far", bloc, 1, 1)]
-    return found + [("can", value) for value in odd_values()] + [("like", value) for value in odd_values()] + [(value, RED, 1) for value in odd_values()]
+    return found + [("can", value) for value in odd_values()] + [("like", value) for value in odd_values()] + [(value, RED, 1, *more) for value in odd_values() for more in ((), (1,))]
 
 
 class ShelfCase(CloseTest):
