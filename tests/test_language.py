@@ -17,6 +17,18 @@ BARRED = set(
     "typing typing_extensions enum Enum IntEnum StrEnum Flag IntFlag Generic Protocol ABC ABCMeta namedtuple NamedTuple TypedDict "
     "abstractmethod register mro elements open input law version_info with_traceback add_note eval exec float chr".split()
 )
+NOT_NAMES = set(
+    "attrgetter breakpoint builtins compile copyright credits delattr dir eval exec exit gc getattr globals hasattr help id importlib license locals "
+    "methodcaller os quit setattr super type vars sys".split()
+)
+# L17: these do not occur even in strings; the last three not where a class has items.
+NOT_WORDS = (
+    "typing|typing_extensions|enum|Enum|IntEnum|StrEnum|Flag|IntFlag|Generic|Protocol|ABC|ABCMeta|namedtuple|NamedTuple|TypedDict|TYPE_CHECKING|"
+    "abstractmethod|Meta|metaclass|type"
+)
+SPECIAL = {
+    "__init__", "__eq__", "__str__", "__len__", "__bool__", "__iter__", "__contains__", "__getitem__", "__setitem__", "__enter__", "__exit__",
+}
 NOT_ALLOWED = (ast.Global, ast.Div, ast.AsyncFunctionDef, ast.Await, ast.Import)
 
 
@@ -79,6 +91,48 @@ class LanguageTest(unittest.TestCase):
                         defined = (FOLDER / (node.module.split(".")[1] + ".py")).read_text(encoding="utf-8")
                         for name in node.names:
                             self.assertRegex(defined, rf"(?m)^(def |class )?{name.name}\b")
+
+    def test_names_of_one_file(self):
+        for tree in TREES:
+            imported = {name.name for node in ast.walk(tree) if isinstance(node, ast.ImportFrom) for name in node.names}
+            classes = {node.name for node in tree.body if isinstance(node, ast.ClassDef)}
+            used = {node.id for node in ast.walk(tree) if isinstance(node, ast.Name)}
+            self.assertEqual(imported - used, set())
+            self.assertEqual(set(bound_names(tree)) & (imported | classes | NOT_NAMES), set())
+            defined = [node.name for node in tree.body if isinstance(node, (ast.FunctionDef, ast.ClassDef))] + sorted(imported)
+            self.assertEqual(len(defined), len(set(defined)))
+
+    def test_words(self):
+        for text in TEXTS:
+            self.assertEqual(re.findall(rf"\b(?:{NOT_WORDS})\b|dataclass|overload|contextmanager", text), [])
+
+    def test_special_methods(self):
+        for tree in TREES:
+            for node in ast.walk(tree):
+                if isinstance(node, ast.FunctionDef) and node.name.startswith("__"):
+                    self.assertIn(node.name, SPECIAL)
+                    rest = node.args
+                    self.assertEqual([rest.defaults if node.name != "__init__" else [], rest.vararg, rest.kwarg, rest.kwonlyargs], [[], None, None, []])
+
+    def test_rows_of_exit(self):
+        """L6: alone attributes, and one name for an attribute of `self`; what `__exit__` calls keeps to the same."""
+        for tree in TREES:
+            for kind in [node for node in ast.walk(tree) if isinstance(node, ast.ClassDef)]:
+                methods = {node.name: node for node in kind.body if isinstance(node, ast.FunctionDef)}
+                if "__exit__" in methods:
+                    rows = ast.unparse(methods["__exit__"].body).split("\n") + ast.unparse(methods["_put_back"].body).split("\n")
+                    for row in rows:
+                        self.assertRegex(row.strip(), r"^(if kind is not None:|self\._put_back\(\)|\w+ = self\.\w+|\w+\.\w+ = \w+\.\w+)$")
+
+    def test_statements_that_are_not_used(self):
+        for tree in TREES:
+            for node in ast.walk(tree):
+                self.assertNotIsInstance(node, (ast.AugAssign, ast.AnnAssign, ast.Nonlocal, ast.Match, ast.Yield, ast.YieldFrom, ast.Set, ast.SetComp))
+                if isinstance(node, ast.ExceptHandler):
+                    self.assertIsNone(node.name)
+                    for name in ast.walk(node.type):
+                        if isinstance(name, ast.Name):
+                            self.assertRegex(name.id, "^(Invalid|Nothing)")
 
     def test_module_level(self):
         allowed = (ast.Expr, ast.ImportFrom, ast.FunctionDef, ast.ClassDef, ast.Assign)
