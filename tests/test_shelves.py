@@ -324,6 +324,121 @@ class DemandsTest(ShelfCase):
         self.assertEqual([len(shelf), shelf.demands, shelf.changes], [0, (), 0])
 
 
+class Plain:
+    """A shelf word by word: errors as pairs of a name and what they tell, None where all is right."""
+
+    def __init__(self):
+        self.nights, self.demands, self.past = {}, [], []
+
+    def keep(self):
+        self.past.append((dict(self.nights), list(self.demands)))
+
+    def holds(self, nights, demand):
+        if len(demand) == 3:
+            one, other = nights[demand[1]], nights[demand[2]]
+            same = (one.seats, one.names) == (other.seats, other.names)
+            return same and oracle.possible(one) == oracle.possible(other)
+        night, told = nights[demand[0]], demand[1]
+        if told[0] == "can":
+            fits = len(told[1]) == len(night) and sum(told[1]) == night.seats
+        elif told[0] == "like":
+            fits = (Night.read(told[1]).seats, Night.read(told[1]).names) == (night.seats, night.names)
+        else:
+            fits = set(told[1]) <= set(night.names) and told[2] <= night.seats
+        return fits and oracle.holds(night, told)
+
+    def put(self, name, night):
+        later = {**self.nights, name: night}
+        broken = [index for index, demand in enumerate(self.demands) if not self.holds(later, demand)]
+        if broken:
+            return "Broken", broken[0]
+        self.keep()
+        self.nights = later
+
+    def remove(self, name):
+        if name not in self.nights:
+            return "UnknownName", name
+        used = [index for index, demand in enumerate(self.demands) if name in (demand[1:] if len(demand) == 3 else demand[:1])]
+        if used:
+            return "InUse", used[0]
+        self.keep()
+        del self.nights[name]
+
+    def ask(self, demand):
+        for name in demand[1:] if len(demand) == 3 else demand[:1]:
+            if name not in self.nights:
+                return "UnknownName", name
+        if not self.holds(self.nights, demand):
+            return "Broken", len(self.demands)
+        self.keep()
+        self.demands.append(demand)
+
+    def lift(self, index):
+        if not 0 <= index < len(self.demands):
+            return "InvalidIndex", index
+        self.keep()
+        del self.demands[index]
+
+    def undo(self):
+        if not self.past:
+            return "NothingToUndo", None
+        self.nights, self.demands = self.past.pop()
+
+
+class SessionsTest(ShelfCase):
+    def one_more(self, source, night):
+        """Something to be done at a shelf, right or wrong: the name of the method, and what it is passed."""
+        name, second = source.choice("abc"), source.choice("abcd")
+        near = source.choice([night, oracle.other_night(source, night), oracle.small_nights(source.randint(0, 5), 1)[0]])
+        return source.choice([
+            ("put", name, near), ("put", name, near), ("ask", ("alike", name, second)), ("ask", (name, oracle.some_demand(source, near))),
+            ("ask", (second, oracle.some_demand(source, night))), ("lift", source.randint(-1, 4)), ("remove", second), ("undo",),
+        ])
+
+    def outcome(self, shelf, method, *given):
+        try:
+            found = put(shelf, *given) if method == "put" else getattr(shelf, method)(*given)
+            self.assertIsNone(found)
+        except (ValueError, LookupError, ArithmeticError) as error:
+            told = list(vars(error).values())
+            return type(error).__name__, told[0] if told else None
+        return None
+
+    def test_against_a_plain_shelf(self):
+        answers = set()
+        for seed in range(40):
+            source = random.Random(seed)
+            night = oracle.small_nights(1000 + seed, 1)[0]
+            shelf, plain = Shelf(), Plain()
+            for _ in range(40):
+                method, *given = self.one_more(source, night)
+                told = getattr(plain, method)(*given)
+                self.assertEqual(self.outcome(shelf, method, *given), told)
+                answers.add((method, told and told[0]))
+                self.assertEqual(seen(shelf), ([(name, str(plain.nights[name])) for name in sorted(plain.nights)], tuple(plain.demands),
+                                               len(plain.past), len(plain.nights)))
+        self.assertEqual(len(answers), 12)
+
+    def test_trials_within_a_session(self):
+        for seed in range(20):
+            source = random.Random(seed)
+            night = oracle.small_nights(2000 + seed, 1)[0]
+            shelf = Shelf()
+            for _ in range(15):
+                before = condition(shelf)
+                bad = source.random() < 0.5
+                try:
+                    with shelf.trial():
+                        for _ in range(source.randint(0, 5)):
+                            self.outcome(shelf, *self.one_more(source, night))
+                        behind = condition(shelf)
+                        if bad:
+                            raise Halt
+                except Halt:
+                    pass
+                self.assertEqual(condition(shelf), before if bad else behind)
+
+
 class UndoTest(ShelfCase):
     def test_back_to_the_empty_shelf(self):
         self.assertEqual([told[2] for told in self.begun], [5, 4, 3, 2, 1, 0])
