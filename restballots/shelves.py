@@ -2,9 +2,9 @@
 
 from restballots.arguments import check_night
 from restballots.demands import are_of_one_kind, have_the_same_possible, is_demand, is_met, is_some_demand
-from restballots.errors import Broken, InUse, InvalidDemand, InvalidIndex, InvalidName, NothingToUndo, UnknownName
+from restballots.errors import Broken, InUse, InvalidDemand, InvalidIndex, InvalidName, UnknownName
 from restballots.kinds import is_index, is_name, is_tuple_of
-from restballots.trials import Moment, Trial
+from restballots.trials import Past, Trial
 
 
 def has_form(demand):
@@ -46,27 +46,27 @@ class Shelf:
     """Nights under names, with a row of demands."""
 
     def __init__(self):
-        self.moment = Moment(({}, ()), None)
+        self._past = Past(({}, ()))
 
     @property
     def names(self):
         """The names under which nights stand, ascending."""
-        nights, _ = self.moment.held
+        nights, _ = self._past.now()
         return tuple(sorted(list(nights)))
 
     @property
     def demands(self):
         """The demands, in their order."""
-        _, demands = self.moment.held
+        _, demands = self._past.now()
         return demands
 
     @property
     def changes(self):
         """How many changes can be taken back."""
-        return self.moment.number
+        return self._past.moment().number
 
     def __len__(self):
-        return len(self.moment.held[0])
+        return len(self._past.now()[0])
 
     def __bool__(self):
         return True
@@ -75,11 +75,11 @@ class Shelf:
         raise TypeError("a shelf is not iterated over")
 
     def __contains__(self, value):
-        nights, _ = self.moment.held
+        nights, _ = self._past.now()
         return is_known(nights, value)
 
     def __getitem__(self, name):
-        nights, _ = self.moment.held
+        nights, _ = self._past.now()
         check_known(nights, name)
         return nights[name]
 
@@ -87,54 +87,51 @@ class Shelf:
         if not is_name(name):
             raise InvalidName(name)
         check_night(night)
-        nights, demands = self.moment.held
+        nights, demands = self._past.now()
         later = dict(nights)
         later[name] = night
         for index, demand in enumerate(demands):
             # The demands on other nights hold as they did.
             if name in names_in(demand) and not is_kept(later, demand):
                 raise Broken(index)
-        self.moment = Moment((later, demands), self.moment)
+        self._past.go_on((later, demands))
 
     def remove(self, name):
         """Takes the night under this name away."""
-        nights, demands = self.moment.held
+        nights, demands = self._past.now()
         check_known(nights, name)
         for index, demand in enumerate(demands):
             if name in names_in(demand):
                 raise InUse(index)
         later = dict(nights)
         del later[name]
-        self.moment = Moment((later, demands), self.moment)
+        self._past.go_on((later, demands))
 
     def ask(self, demand):
         """Puts a demand more behind the others."""
-        nights, demands = self.moment.held
+        nights, demands = self._past.now()
         if not has_form(demand):
             raise InvalidDemand(demand)
         for name in names_in(demand):
             check_known(nights, name)
         if not is_kept(nights, demand):
             raise Broken(len(demands))
-        self.moment = Moment((nights, demands + (demand,)), self.moment)
+        self._past.go_on((nights, demands + (demand,)))
 
     def lift(self, index):
         """Takes a demand away."""
-        nights, demands = self.moment.held
+        nights, demands = self._past.now()
         if not is_index(index, len(demands)):
             raise InvalidIndex(index)
-        self.moment = Moment((nights, demands[:index] + demands[index + 1:]), self.moment)
+        self._past.go_on((nights, demands[:index] + demands[index + 1:]))
 
     def undo(self):
         """Takes back the last change that is not taken back yet."""
-        before = self.moment.before
-        if before is None:
-            raise NothingToUndo()
-        self.moment = before
+        self._past.go_back()
 
     def trial(self):
         """For a `with` statement: if its rows end with an exception, the shelf is as it was when they began."""
-        return Trial(self)
+        return Trial(self, self._past)
 
     def tried(self, action):
         """What the function returns for the shelf, within a trial."""

@@ -1,7 +1,6 @@
-"""Moments of an object that changes, and trials: if one ends with an exception, what it did is taken back.
+"""What an object holds, moment by moment, and trials: if one ends with an exception, what it did is taken back."""
 
-An object that has trials keeps all that changes in its attribute `moment`.
-"""
+from restballots.errors import NothingToUndo
 
 
 class Moment:
@@ -13,34 +12,56 @@ class Moment:
         self.number = 0 if before is None else before.number + 1
 
 
-class Entry:
-    """How a trial stood when it was entered: the moment with which the entry around this one began, and that entry."""
+class Past:
+    """The moment in which an object is, with those before it."""
 
-    def __init__(self, begun, outer):
-        self.begun = begun
-        self.outer = outer
+    def __init__(self, held):
+        # An `__exit__` takes no item out of a row, so a trial puts its row of moments here, and a place in it.
+        self.moments = (Moment(held, None),)
+        self.place = 0
+
+    def moment(self):
+        """The moment that is now."""
+        return self.moments[self.place]
+
+    def now(self):
+        """What the object holds now."""
+        return self.moment().held
+
+    def go_on(self, held):
+        """From now on the object holds this."""
+        self._move(Moment(held, self.moment()))
+
+    def go_back(self):
+        """The object is again in the moment before."""
+        before = self.moment().before
+        if before is None:
+            raise NothingToUndo()
+        self._move(before)
+
+    def _move(self, moment):
+        self.moments = (moment,)
+        self.place = 0
 
 
 class Trial:
     """For a `with` statement; one object can be used several times, also within itself."""
 
-    def __init__(self, owner):
+    def __init__(self, owner, past):
         self._owner = owner
-        self._begun = None
-        self._entry = None
+        self._past = past
+        self._begun = ()
+        self._depth = 0
 
     def __enter__(self):
-        self._entry = Entry(self._begun, self._entry)
-        self._begun = self._owner.moment
+        # Behind the depth stand the beginnings of rows that have ended.
+        self._begun = self._begun[:self._depth] + (self._past.moment(),)
+        self._depth = self._depth + 1
         return self._owner
 
     def __exit__(self, kind, value, trace):
+        past = self._past
+        self._depth -= 1
         if kind is not None:
-            self._put_back()
-        entry = self._entry
-        self._begun = entry.begun
-        self._entry = entry.outer
-
-    def _put_back(self):
-        owner = self._owner
-        owner.moment = self._begun
+            past.moments = self._begun
+            past.place = self._depth

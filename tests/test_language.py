@@ -29,6 +29,12 @@ NOT_WORDS = (
 SPECIAL = {
     "__init__", "__eq__", "__str__", "__len__", "__bool__", "__iter__", "__contains__", "__getitem__", "__setitem__", "__enter__", "__exit__",
 }
+# L6: an attribute is a value of `self` or of the one name that is let for such a value; `value` and `trace` are not read.
+VALUE = r"(?:\w+\.\w+|\d+|None|True|False|\(\))"
+ROW_OF_EXIT = (
+    rf"^(?:pass|return|return None|return False|if kind is (?:not )?None:|\w+ = self\.\w+|\w+\.\w+ = {VALUE}|\w+\.\w+ = {VALUE} - \d+|"
+    r"\w+\.\w+ [+-]= \d+|self\.\w+\(\))$"
+)
 NOT_ALLOWED = (ast.Global, ast.Div, ast.AsyncFunctionDef, ast.Await, ast.Import)
 
 
@@ -40,6 +46,17 @@ def bound_names(tree):
             yield node.arg
         elif isinstance(node, ast.ExceptHandler) and node.name:
             yield node.name
+
+
+def rows_of_exit(kind):
+    """The rows of `__exit__` and of all methods of the same class that it calls, and so on."""
+    methods = {node.name: node for node in kind.body if isinstance(node, ast.FunctionDef)}
+    names, rows = ["__exit__"] if "__exit__" in methods else [], []
+    for name in names:
+        for row in ast.unparse(methods[name].body).split("\n"):
+            rows.append(row.strip())
+            names.extend(told for told in re.findall(r"self\.(\w+)\(", row) if told not in names)
+    return rows
 
 
 class LanguageTest(unittest.TestCase):
@@ -115,19 +132,21 @@ class LanguageTest(unittest.TestCase):
                     self.assertEqual([rest.defaults if node.name != "__init__" else [], rest.vararg, rest.kwarg, rest.kwonlyargs], [[], None, None, []])
 
     def test_rows_of_exit(self):
-        """L6: alone attributes, and one name for an attribute of `self`; what `__exit__` calls keeps to the same."""
-        for tree in TREES:
-            for kind in [node for node in ast.walk(tree) if isinstance(node, ast.ClassDef)]:
-                methods = {node.name: node for node in kind.body if isinstance(node, ast.FunctionDef)}
-                if "__exit__" in methods:
-                    rows = ast.unparse(methods["__exit__"].body).split("\n") + ast.unparse(methods["_put_back"].body).split("\n")
-                    for row in rows:
-                        self.assertRegex(row.strip(), r"^(if kind is not None:|self\._put_back\(\)|\w+ = self\.\w+|\w+\.\w+ = \w+\.\w+)$")
+        """L6: the rows of `__exit__`, and of what it calls, are of few forms; one name alone is let for an attribute of `self`."""
+        found = [rows_of_exit(kind) for tree in TREES for kind in ast.walk(tree) if isinstance(kind, ast.ClassDef)]
+        self.assertEqual(len([rows for rows in found if rows]), 1)
+        for rows in found:
+            for row in rows:
+                self.assertRegex(row, ROW_OF_EXIT)
+            self.assertLessEqual(len([row for row in rows if re.match(r"\w+ = ", row)]), 1)
 
     def test_statements_that_are_not_used(self):
         for tree in TREES:
+            in_exit = [node for whole in ast.walk(tree) if isinstance(whole, ast.FunctionDef) and whole.name == "__exit__" for node in ast.walk(whole)]
             for node in ast.walk(tree):
-                self.assertNotIsInstance(node, (ast.AugAssign, ast.AnnAssign, ast.Nonlocal, ast.Match, ast.Yield, ast.YieldFrom, ast.Set, ast.SetComp))
+                self.assertNotIsInstance(node, (ast.AnnAssign, ast.Nonlocal, ast.Match, ast.Yield, ast.YieldFrom, ast.Set, ast.SetComp))
+                if isinstance(node, ast.AugAssign):
+                    self.assertIn(node, in_exit)
                 if isinstance(node, ast.ExceptHandler):
                     self.assertIsNone(node.name)
                     for name in ast.walk(node.type):

@@ -385,3 +385,66 @@ class TrialTest(DeskCase):
 
         self.assertEqual(self.desk.tried(outer), 3)
         self.assertEqual(condition(self.desk)[1:], self.begun)
+
+
+class NestingTest(DeskCase):
+    """Trials of many nestings; `past` is the row of all nights of the desk, by the sizes of their piles."""
+
+    def rows(self, source, desk, past, trials, level):
+        """Does something at the desk, also in trials, and returns its nights behind that."""
+        for _ in range(source.randint(1, 4)):
+            what = source.choice(("add", "undo", "trial", "trial"))
+            if what == "add" and len(desk) < 6:
+                desk.add(len(past), ("a",))
+                past = past + (past[-1] + (len(past),),)
+            elif what == "undo" and len(past) > 1:
+                desk.undo()
+                past = past[:-1]
+            elif what == "undo":
+                self.raised(NothingToUndo, desk.undo)
+            elif what == "trial" and level < 5:
+                past = self.within(source, desk, past, trials, level)
+            self.assertEqual(tuple(size for size, _ in desk.night.piles), past[-1])
+        return past
+
+    def within(self, source, desk, past, trials, level):
+        bad = source.random() < 0.5
+        try:
+            with source.choice(trials + [desk.trial()]) as same:
+                self.assertIs(same, desk)
+                behind = self.rows(source, desk, past, trials, level + 1)
+                if bad:
+                    raise Halt
+        except Halt:
+            return past
+        self.assertFalse(bad)
+        return behind
+
+    def test_trials_of_few_objects(self):
+        for seed in range(300):
+            source = random.Random(seed)
+            desk = Desk(Night((1,), (("a", 0),)))
+            trials = [desk.trial() for _ in range(seed % 3)]
+            past = self.rows(source, desk, ((),), trials, 0)
+            past = self.rows(source, desk, past, trials, 0)
+            for sizes in reversed(past):
+                self.assertEqual(tuple(size for size, _ in desk.night.piles), sizes)
+                if sizes:
+                    desk.undo()
+            self.raised(NothingToUndo, desk.undo)
+
+    def test_rows_that_end_in_another_order(self):
+        def adding(desk, trial, size):
+            with trial:
+                desk.add(size, ("a",))
+                yield
+
+        desk = Desk(Night((1,), (("a", 0),)))
+        first, second = adding(desk, desk.trial(), 1), adding(desk, desk.trial(), 2)
+        next(first)
+        next(second)
+        self.assertEqual(len(desk), 2)
+        self.assertRaises(Halt, first.throw, Halt())
+        self.assertEqual(len(desk), 0)
+        self.assertRaises(Halt, second.throw, Halt())
+        self.assertEqual(desk.night.piles, ((1, ("a",)),))
